@@ -2,6 +2,7 @@ package tests
 
 import (
 	"bytes"
+	"iter"
 	"math"
 	"strings"
 	"testing"
@@ -103,6 +104,19 @@ func wrongFrames() []impl.Frame {
 		{Dlc: 9, Data: make([]uint8, 9)},
 		{Dlc: 15, Data: make([]uint8, 15)},
 		{Ext: true, Dlc: 2, Data: make([]uint8, 1<<20)},
+	}
+}
+
+// everyText goes through all bit texts of at most so many letters, the empty one first.
+func everyText(longest int) iter.Seq[string] {
+	return func(yield func(string) bool) {
+		for length := range longest + 1 {
+			for value := range 1 << length {
+				if !yield(numberText(value, length)) {
+					return
+				}
+			}
+		}
 	}
 }
 

@@ -123,10 +123,8 @@ func expectAsSlow(t *testing.T, heard string) {
 }
 
 func TestJudgeOfEveryShortText(t *testing.T) {
-	for length := range 15 {
-		for value := range 1 << length {
-			expectAsSlow(t, numberText(value, length))
-		}
+	for text := range everyText(14) {
+		expectAsSlow(t, text)
 	}
 }
 
@@ -157,16 +155,21 @@ func TestJudgeOfTurnedBits(t *testing.T) {
 	}
 }
 
+// body is a row of random bits, as long as the head that it happens to begin with asks for.
+func (d *dice) body() string {
+	body := "0" + d.text(38)
+	if d.roll(2) == 0 {
+		body = "0" + d.runs(38)
+	}
+	_, crc, _ := shape(body)
+	return (body + d.runs(64))[:crc]
+}
+
 // A body of random bits is heard as some frame, with either level in FieldRtr of an extended frame and in FieldRes.
 func TestJudgeOfRandomBodies(t *testing.T) {
 	d := dice(10)
 	for range 3000 {
-		body := "0" + d.text(38)
-		if d.roll(2) == 0 {
-			body = "0" + d.runs(38)
-		}
-		_, crc, _ := shape(body)
-		body = (body + d.runs(64))[:crc]
+		body := d.body()
 		heard := heardOf(body, d.text(1))
 		expectVerdict(t, heard, impl.Verdict{Code: impl.VerdictWhole})
 		expectAsSlow(t, heard[:d.roll(len(heard))])

@@ -19,10 +19,8 @@ func expectBackAgain(t *testing.T, text string) {
 }
 
 func TestP1EveryShortText(t *testing.T) {
-	for length := range 15 {
-		for value := range 1 << length {
-			expectBackAgain(t, numberText(value, length))
-		}
+	for text := range everyText(14) {
+		expectBackAgain(t, text)
 	}
 }
 
