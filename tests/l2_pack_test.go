@@ -173,7 +173,7 @@ func TestCrcPackedRefuses(t *testing.T) {
 	}
 }
 
-// The table is built under whichever call comes first; none may see half of it.
+// Calls at one time have each a table of their own; none may see half of another's.
 func TestCrcPackedFromManySides(t *testing.T) {
 	d := dice(24)
 	text := d.text(impl.MaxPlain)
